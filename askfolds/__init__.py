@@ -1,0 +1,1 @@
+"""Askfolds: forms whose questions show by what was answered."""

@@ -1,0 +1,134 @@
+"""What several tests need: things that are none of the right ones, and all stores of small forms."""
+
+import itertools
+
+from askfolds.kinds import answers
+from askfolds.views import holds
+
+BIG = 10 ** 199
+TRUE = ("all", ())
+FALSE = ("any", ())
+
+ODD_THINGS = (
+    None, True, False, 0, 1, -1, BIG, -BIG, "", " ", "a", "one", "given", "leaf", (), [], ((),), [[]],
+    (True,), ("one",), ["one", 2], ("given", ["b"]), ("all", []), (0, []), [0, ()], ((), []), [(), ()],
+    ("a", 0), ("a", True), (None, None), ("not", ("not", ("not", None))), (("b", ("one", 2)),),
+)
+
+
+def deep(thing, times):
+    """Put the thing into so many tuples."""
+    for turn in range(times):
+        thing = (thing,)
+    return thing
+
+
+def spoiled(thing):
+    """Yield the thing with one tuple made a list, or one NUMBER made a truth, a text or None, however deep."""
+    if isinstance(thing, tuple):
+        yield list(thing)
+        for at, inner in enumerate(thing):
+            for other in spoiled(inner):
+                yield thing[:at] + (other,) + thing[at + 1:]
+    elif isinstance(thing, int):
+        yield bool(thing)
+        yield True
+        yield False
+        yield str(thing)
+        yield None
+    elif isinstance(thing, str):
+        yield True
+        yield 0
+        yield None
+        yield [thing]
+        yield (thing,)
+        yield thing.upper() + "!"
+
+
+def whole_stores(form):
+    """Tell all WHOLE STORES of a small FORM."""
+    names = [question[0] for question in form]
+    return [tuple(zip(names, some)) for some in itertools.product(*[answers(question[1]) for question in form])]
+
+
+def view_of(form, store):
+    """Tell the VIEW, gone through as point [4] says it."""
+    given = dict(store)
+    pairs = ()
+    for name, kind, wish in form:
+        if holds(pairs, wish) and name in given:
+            pairs += ((name, given[name]),)
+    return pairs
+
+
+def spreads_of(kind):
+    """Tell all RANGES of a small KIND."""
+    if kind[0] == "number":
+        numbers = range(kind[1], kind[2] + 1)
+        return [(start, end) for start in numbers for end in numbers if start <= end]
+    subsets = answers(("some", kind[1]))
+    if kind[0] == "one":
+        return [some for some in subsets if some]
+    return [(within, without) for within in subsets for without in subsets if not set(within) & set(without)]
+
+
+def boxes_of(form):
+    """Tell all BOXES of a small FORM."""
+    return [tuple(box) for box in itertools.product(*[spreads_of(question[1]) for question in form])]
+
+
+def random_kind(dice):
+    """Make a small KIND."""
+    sort = dice.choice(("one", "number", "some"))
+    if sort == "number":
+        low = dice.randint(-2, 1)
+        return sort, low, low + dice.randint(0, 2)
+    return sort, dice.randint(1, 3 if sort == "one" else 2)
+
+
+def random_sentence(dice, kinds, depth):
+    """Make a SENTENCE OF the KINDS with at most so many within it."""
+    words = ["all", "any"]
+    if depth > 0:
+        words += ["all", "any", "not", "least", "least"]
+    for sort, some in (("one", ["is", "is"]), ("some", ["has", "has"])):
+        if any(kind[0] == sort for name, kind in kinds):
+            words += some
+    if kinds:
+        words += ["given"]
+    word = dice.choice(words)
+    if word == "given":
+        return word, dice.choice(kinds)[0]
+    if word in ("is", "has"):
+        sort = "one" if word == "is" else "some"
+        return word, dice.choice([name for name, kind in kinds if kind[0] == sort]), dice.randint(0, 3)
+    if word == "least":
+        return word, random_term(dice, kinds, depth - 1), dice.randint(-4, 4)
+    if word == "not":
+        return word, random_sentence(dice, kinds, depth - 1)
+    many = dice.randint(0, 2) if depth > 0 else 0
+    return word, tuple(random_sentence(dice, kinds, depth - 1) for turn in range(many))
+
+
+def random_term(dice, kinds, depth):
+    """Make a TERM OF the KINDS."""
+    parts = []
+    for turn in range(dice.randint(0, 3)):
+        if not kinds or depth > 0 and dice.random() < 0.3:
+            parts.append(("where", random_sentence(dice, kinds, depth - 1), dice.randint(-3, 3)))
+            continue
+        name, kind = dice.choice(kinds)
+        if kind[0] == "number":
+            parts.append(("times", name, dice.randint(-3, 3)))
+        else:
+            parts.append(("of", name, tuple(dice.randint(-3, 3) for turn in range(dice.randint(0, 3)))))
+    return dice.randint(-3, 3), tuple(parts)
+
+
+def random_form(dice, many):
+    """Make a small FORM of so many QUESTIONS."""
+    form = ()
+    for name in "abcdefgh"[:many]:
+        kinds = [question[:2] for question in form]
+        form += ((name, random_kind(dice), random_sentence(dice, kinds, 3)),)
+    return form
