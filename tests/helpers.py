@@ -2,6 +2,7 @@
 
 import itertools
 
+from askfolds.boxes import whole
 from askfolds.kinds import answers
 from askfolds.views import holds
 
@@ -14,6 +15,22 @@ ODD_THINGS = (
     (True,), ("one",), ["one", 2], ("given", ["b"]), ("all", []), (0, []), [0, ()], ((), []), [(), ()],
     ("a", 0), ("a", True), (None, None), ("not", ("not", ("not", None))), (("b", ("one", 2)),),
 )
+
+# Of each sort one QUESTION with the state yes, one with maybe, one with no.
+MAYBE = ("is", "q", 0)
+STATES_FORM = (
+    ("q", ("one", 2), TRUE),
+    ("ny", ("number", -5, 7), TRUE), ("nm", ("number", -5, 7), MAYBE), ("nn", ("number", -5, 7), FALSE),
+    ("by", ("one", 4), TRUE), ("bm", ("one", 4), MAYBE), ("bn", ("one", 4), FALSE),
+    ("sy", ("some", 4), TRUE), ("sm", ("some", 4), MAYBE), ("sn", ("some", 4), FALSE),
+)
+
+
+def states_box(**spreads):
+    """Tell the BOX of STATES_FORM with these RANGES, all others of all ANSWERS."""
+    return tuple(
+        spreads.get(question[0], spread) for question, spread in zip(STATES_FORM, whole(STATES_FORM, ()))
+    )
 
 
 def deep(thing, times):

@@ -6,37 +6,21 @@ import unittest
 from askfolds.boxes import has, whole
 from askfolds.surely import low_high, states, surely
 from askfolds.views import holds, value
-from tests.helpers import BIG, FALSE, TRUE, boxes_of, random_form, random_sentence, random_term, view_of, whole_stores
-
-# Of each sort one QUESTION with the state yes, one with maybe, one with no.
-MAYBE = ("is", "q", 0)
-FORM = (
-    ("q", ("one", 2), TRUE),
-    ("ny", ("number", -5, 7), TRUE), ("nm", ("number", -5, 7), MAYBE), ("nn", ("number", -5, 7), FALSE),
-    ("by", ("one", 4), TRUE), ("bm", ("one", 4), MAYBE), ("bn", ("one", 4), FALSE),
-    ("sy", ("some", 4), TRUE), ("sm", ("some", 4), MAYBE), ("sn", ("some", 4), FALSE),
-)
-NAMES = [question[0] for question in FORM]
-
-
-def box_with(**spreads):
-    box = list(whole(FORM, ()))
-    for name, spread in spreads.items():
-        box[NAMES.index(name)] = spread
-    return tuple(box)
+from tests.helpers import BIG, FALSE, MAYBE, STATES_FORM, TRUE, boxes_of, random_form, random_sentence, random_term
+from tests.helpers import states_box, view_of, whole_stores
 
 
 class Words(unittest.TestCase):
     def check(self, sentence, told, **spreads):
-        self.assertEqual(surely(FORM, box_with(**spreads), sentence), told, (sentence, spreads))
+        self.assertEqual(surely(STATES_FORM, states_box(**spreads), sentence), told, (sentence, spreads))
 
     def test_states(self):
         told = ("yes", "yes", "maybe", "no") + ("yes", "maybe", "no") * 2
-        self.assertEqual(states(FORM, box_with()), told)
+        self.assertEqual(states(STATES_FORM, states_box()), told)
         told = ("yes", "yes", "yes", "no") + ("yes", "yes", "no") * 2
-        self.assertEqual(states(FORM, box_with(q=(0,))), told)
+        self.assertEqual(states(STATES_FORM, states_box(q=(0,))), told)
         told = ("yes", "yes", "no", "no") + ("yes", "no", "no") * 2
-        self.assertEqual(states(FORM, box_with(q=(1,))), told)
+        self.assertEqual(states(STATES_FORM, states_box(q=(1,))), told)
         self.assertEqual(states((), ()), ())
 
     def test_given(self):
@@ -92,7 +76,7 @@ class Words(unittest.TestCase):
 class Bounds(unittest.TestCase):
     def check(self, part, told, **spreads):
         low, high = told
-        self.assertEqual(low_high(FORM, box_with(**spreads), (10, (part,))), (10 + low, 10 + high), (part, spreads))
+        self.assertEqual(low_high(STATES_FORM, states_box(**spreads), (10, (part,))), (10 + low, 10 + high), (part, spreads))
 
     def test_times(self):
         for name, weight, spread, told in (
@@ -135,8 +119,8 @@ class Bounds(unittest.TestCase):
 
     def test_several_parts_are_added(self):
         term = (-1, (("times", "ny", 1), ("times", "ny", -1), ("where", MAYBE, 3)))
-        self.assertEqual(low_high(FORM, box_with(ny=(1, 2)), term), (-2, 3))
-        self.assertEqual(low_high(FORM, box_with(), (BIG, ())), (BIG, BIG))
+        self.assertEqual(low_high(STATES_FORM, states_box(ny=(1, 2)), term), (-2, 3))
+        self.assertEqual(low_high(STATES_FORM, states_box(), (BIG, ())), (BIG, BIG))
         self.assertEqual(low_high((), (), (3, (("where", TRUE, 2),))), (5, 5))
 
     def test_names_of_the_arguments(self):

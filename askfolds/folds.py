@@ -1,0 +1,106 @@
+"""Folds: forms with blocks whose bodies come again in pieces, and their stores."""
+
+from askfolds.forms import are_pairs, is_question, kinds_of
+from askfolds.kinds import LETTERS, is_number
+from askfolds.terms import sentence_fits
+
+
+def is_fold(thing):
+    """Tell whether the thing is a FOLD."""
+    if not isinstance(thing, tuple):
+        return False
+    ahead = {}
+    blocks = {}
+    found = []
+    for item in thing:
+        if not is_item(ahead, blocks, item):
+            return False
+        found.extend(item_names(item))
+        ahead[item[0]] = item_kind(item)
+        if is_block(item):
+            body = dict(kinds_of(item[3]))
+            blocks[item[0]] = (body, {**ahead, **body})
+    return len(found) == len(set(found)) and all(is_fold_name(name) for name in found)
+
+
+def is_block(item):
+    """Tell whether the ITEM is a BLOCK; else it is a QUESTION."""
+    return len(item) == 4
+
+
+def is_item(ahead, blocks, thing):
+    """Tell whether the thing is an ITEM, whatever its names' signs, behind what is ahead."""
+    if not isinstance(thing, tuple) or len(thing) != 4:
+        return is_question(ahead, blocks, thing)
+    name, most, wish, body = thing
+    if not isinstance(name, str) or not is_number(most) or most < 1:
+        return False
+    return sentence_fits(ahead, blocks, wish) and is_body({**ahead, name: item_kind(thing)}, body)
+
+
+def is_body(ahead, thing):
+    """Tell whether the thing is a tuple of QUESTIONS behind what is ahead of it and its BLOCK's name."""
+    if not isinstance(thing, tuple):
+        return False
+    seen = dict(ahead)
+    for question in thing:
+        if not is_question(seen, {}, question):
+            return False
+        seen[question[0]] = question[1]
+    return True
+
+
+def item_kind(item):
+    """Tell the KIND of the ITEM's name."""
+    return ("number", 0, item[1]) if is_block(item) else item[1]
+
+
+def item_names(item):
+    """Tell the names in the ITEM, its own and those of its body."""
+    if not is_block(item):
+        return [item[0]]
+    return [item[0]] + [question[0] for question in item[3]]
+
+
+def is_fold_name(text):
+    """Tell whether the text has one to seven small letters and nothing else."""
+    return 1 <= len(text) <= 7 and all(sign in LETTERS for sign in text)
+
+
+def is_fold_store(fold, thing):
+    """Tell whether the thing is a FOLD STORE of the FOLD."""
+    if not isinstance(thing, tuple) or len(thing) != 2:
+        return False
+    outer, entries = thing
+    questions = [item for item in fold if not is_block(item)]
+    if not are_pairs(questions, outer):
+        return False
+    blocks = [item for item in fold if is_block(item)]
+    if not isinstance(entries, tuple) or len(entries) != len(blocks):
+        return False
+    return all(are_pieces(block, pieces) for block, pieces in zip(blocks, entries))
+
+
+def are_pieces(block, thing):
+    """Tell whether the thing is a tuple of PIECES of the BLOCK, no more than it may have."""
+    name, most, wish, body = block
+    if not isinstance(thing, tuple) or len(thing) > most:
+        return False
+    return all(are_pairs(body, piece) for piece in thing)
+
+
+def spots(fold, store):
+    """Tell the SPOTS that there are, ITEM by ITEM, behind a BLOCK's name those of its PIECES."""
+    found = []
+    at = 0
+    for item in fold:
+        found.append(item[0])
+        if is_block(item):
+            found.extend(piece_spots(item, len(store[1][at])))
+            at += 1
+    return tuple(found)
+
+
+def piece_spots(block, many):
+    """Tell the SPOTS in so many PIECES of the BLOCK."""
+    return [(question[0], place) for place in range(many) for question in block[3]]
