@@ -4,6 +4,7 @@ from askfolds.errors import NoText
 from askfolds.kinds import FIGURES, is_name, is_rising_below
 
 MOST_FIGURES = 12
+# Above each NUMBER of so many figures, as the order of an ANSWER is looked at below a bound.
 OVER_ALL = 1000000000000
 
 
