@@ -1,6 +1,7 @@
 """Boxes: one range of answers for each question of a form."""
 
 from askfolds.kinds import is_number, is_rising_below
+from askfolds.rows import put_instead
 
 
 def is_box(form, thing):
@@ -94,13 +95,8 @@ def parts(form, box, row):
     """Tell the PARTS of the BOX by the SPLIT row, [] where it doesn't fit."""
     for place, question in enumerate(form):
         if question[0] == row[1]:
-            return [replaced(box, place, spread) for spread in split_spreads(question[1], box[place], row)]
+            return [put_instead(box, place, spread) for spread in split_spreads(question[1], box[place], row)]
     return []
-
-
-def replaced(box, place, spread):
-    """Tell the BOX with another RANGE at this place."""
-    return box[:place] + (spread,) + box[place + 1:]
 
 
 def split_spreads(kind, spread, row):

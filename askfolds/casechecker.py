@@ -8,9 +8,14 @@ from askfolds.surely import bounds_by, facts_in, word_by
 
 def lets_cases(form, known, claim, thing):
     """Tell True where the thing is CASES for the CLAIM from the known answers."""
+    return lets_rows(form, whole(form, known), lambda box: is_right(form, box, claim), thing)
+
+
+def lets_rows(form, start, right, thing):
+    """Tell True where the thing is rows that split the BOX start into leaves, of each of which right tells True."""
     if not isinstance(thing, tuple):
         raise NoPaper("shape", -1)
-    waiting = [whole(form, known)]
+    waiting = [start]
     for at, row in enumerate(thing):
         if not is_case_row(row):
             raise NoPaper("row", at)
@@ -23,7 +28,7 @@ def lets_cases(form, known, claim, thing):
                 raise NoPaper("box", at)
             # The last one is taken next, so the first PART has to wait behind the others.
             waiting.extend(split[::-1])
-        elif not is_right(form, box, claim):
+        elif not right(box):
             raise NoPaper("leaf", at)
     if waiting:
         raise NoPaper("few", len(thing))

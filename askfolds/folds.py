@@ -89,18 +89,36 @@ def are_pieces(block, thing):
     return all(are_pairs(body, piece) for piece in thing)
 
 
-def spots(fold, store):
-    """Tell the SPOTS that there are, ITEM by ITEM, behind a BLOCK's name those of its PIECES."""
+def with_pieces(fold, store):
+    """Tell each ITEM of the FOLD with its PIECES, () of a QUESTION."""
     found = []
     at = 0
     for item in fold:
+        if is_block(item):
+            found.append((item, store[1][at]))
+            at += 1
+        else:
+            found.append((item, ()))
+    return found
+
+
+def spots(fold, store):
+    """Tell the SPOTS that there are, ITEM by ITEM, behind a BLOCK's name those of its PIECES."""
+    found = []
+    for item, pieces in with_pieces(fold, store):
         found.append(item[0])
         if is_block(item):
-            found.extend(piece_spots(item, len(store[1][at])))
-            at += 1
+            found.extend([(question[0], place) for place in range(len(pieces)) for question in item[3]])
     return tuple(found)
 
 
-def piece_spots(block, many):
-    """Tell the SPOTS in so many PIECES of the BLOCK."""
-    return [(question[0], place) for place in range(many) for question in block[3]]
+def spot_answers(fold, store):
+    """Tell the answer of each SPOT that has one, a dict."""
+    found = dict(store[0])
+    for item, pieces in with_pieces(fold, store):
+        if is_block(item):
+            found[item[0]] = len(pieces)
+        for place, piece in enumerate(pieces):
+            for name, answer in piece:
+                found[(name, place)] = answer
+    return found

@@ -1,4 +1,8 @@
-"""What holds, and what a term comes to, against pairs (name, answer)."""
+"""What holds, what a term comes to, and what shows, against pairs (name, answer).
+
+Given is a dict from names to answers. Of a block that shows it has beside its name, by the key (name, "pieces"),
+a list with what is given in each of its pieces.
+"""
 
 
 def holds(pairs, sentence):
@@ -12,7 +16,7 @@ def value(pairs, term):
 
 
 def holds_with(given, sentence):
-    """Tell whether the SENTENCE holds, given a dict from names to answers."""
+    """Tell whether the SENTENCE holds by what is given."""
     word = sentence[0]
     if word == "given":
         return sentence[1] in given
@@ -30,7 +34,7 @@ def holds_with(given, sentence):
 
 
 def value_with(given, term):
-    """Tell what the TERM comes to, given a dict from names to answers."""
+    """Tell what the TERM comes to by what is given."""
     constant, parts = term
     return constant + sum(part_value(given, part) for part in parts)
 
@@ -40,11 +44,26 @@ def part_value(given, part):
     word, about, weight = part
     if word == "where":
         return weight if holds_with(given, about) else 0
+    if word == "pieces":
+        return sum(value_with(piece, weight) for piece in given.get((about, "pieces"), ()))
     if about not in given:
         return 0
     if word == "times":
         return weight * given[about]
     return weight_of(weight, given[about])
+
+
+def gone_through(questions, given, pairs):
+    """Go through the QUESTIONS in order: tell the NAMES that SHOW, and what is given behind them."""
+    stored = dict(pairs)
+    found = []
+    seen = dict(given)
+    for name, kind, wish in questions:
+        if holds_with(seen, wish):
+            found.append(name)
+            if name in stored:
+                seen[name] = stored[name]
+    return found, seen
 
 
 def weight_of(weights, answer):

@@ -2,7 +2,7 @@
 
 import itertools
 
-from askfolds.boxes import whole
+from askfolds.boxes import parts, whole
 from askfolds.kinds import answers
 from askfolds.views import holds
 
@@ -94,6 +94,20 @@ def boxes_of(form):
     return [tuple(box) for box in itertools.product(*[spreads_of(question[1]) for question in form])]
 
 
+def full_cases(form, box):
+    """Write the CASES that split the BOX down to single WHOLE STORES."""
+    for (name, kind, wish), spread in zip(form, box):
+        rows = [("each", name)] if kind[0] == "one" else []
+        if kind[0] == "number":
+            rows = [("cut", name, number) for number in range(kind[1], kind[2] + 1)]
+        if kind[0] == "some":
+            rows = [("with", name, number) for number in range(kind[1])]
+        for row in rows:
+            if parts(form, box, row):
+                return (row,) + tuple(inner for part in parts(form, box, row) for inner in full_cases(form, part))
+    return (("leaf",),)
+
+
 def random_kind(dice):
     """Make a small KIND."""
     sort = dice.choice(("one", "number", "some"))
@@ -103,8 +117,8 @@ def random_kind(dice):
     return sort, dice.randint(1, 3 if sort == "one" else 2)
 
 
-def random_sentence(dice, kinds, depth):
-    """Make a SENTENCE OF the KINDS with at most so many within it."""
+def random_sentence(dice, kinds, depth, blocks=()):
+    """Make a SENTENCE OF the KINDS with at most so many within it, and PIECES PARTS of the blocks."""
     words = ["all", "any"]
     if depth > 0:
         words += ["all", "any", "not", "least", "least"]
@@ -120,21 +134,26 @@ def random_sentence(dice, kinds, depth):
         sort = "one" if word == "is" else "some"
         return word, dice.choice([name for name, kind in kinds if kind[0] == sort]), dice.randint(0, 3)
     if word == "least":
-        return word, random_term(dice, kinds, depth - 1), dice.randint(-4, 4)
+        return word, random_term(dice, kinds, depth - 1, blocks), dice.randint(-4, 4)
     if word == "not":
-        return word, random_sentence(dice, kinds, depth - 1)
+        return word, random_sentence(dice, kinds, depth - 1, blocks)
     many = dice.randint(0, 2) if depth > 0 else 0
-    return word, tuple(random_sentence(dice, kinds, depth - 1) for turn in range(many))
+    return word, tuple(random_sentence(dice, kinds, depth - 1, blocks) for turn in range(many))
 
 
-def random_term(dice, kinds, depth):
-    """Make a TERM OF the KINDS."""
+def random_term(dice, kinds, depth, blocks=(), straight=None):
+    """Make a TERM OF the KINDS, names straight in it of those that are told so."""
+    straight = kinds if straight is None else straight
     parts = []
     for turn in range(dice.randint(0, 3)):
-        if not kinds or depth > 0 and dice.random() < 0.3:
-            parts.append(("where", random_sentence(dice, kinds, depth - 1), dice.randint(-3, 3)))
+        if blocks and dice.random() < 0.5:
+            block, body, seen = dice.choice(blocks)
+            parts.append(("pieces", block, random_term(dice, seen, depth, (), body)))
             continue
-        name, kind = dice.choice(kinds)
+        if not straight or depth > 0 and dice.random() < 0.3:
+            parts.append(("where", random_sentence(dice, kinds, depth - 1, blocks), dice.randint(-3, 3)))
+            continue
+        name, kind = dice.choice(straight)
         if kind[0] == "number":
             parts.append(("times", name, dice.randint(-3, 3)))
         else:
@@ -149,3 +168,54 @@ def random_form(dice, many):
         kinds = [question[:2] for question in form]
         form += ((name, random_kind(dice), random_sentence(dice, kinds, 3)),)
     return form
+
+
+def seen_behind(fold):
+    """Tell the KINDS that are ahead of an ITEM behind all others, and the blocks, as random_term takes both."""
+    ahead, blocks = [], []
+    for item in fold:
+        ahead = ahead + [(item[0], ("number", 0, item[1]) if len(item) == 4 else item[1])]
+        if len(item) == 4:
+            body = [question[:2] for question in item[3]]
+            blocks = blocks + [(item[0], body, ahead + body)]
+    return ahead, blocks
+
+
+def random_body(dice, ahead, names):
+    """Make the QUESTIONS of a body."""
+    body = ()
+    for name in names:
+        kinds = ahead + [question[:2] for question in body]
+        body += ((name, random_kind(dice), random_sentence(dice, kinds, 2)),)
+    return body
+
+
+def random_fold(dice, many):
+    """Make a small FOLD of so many ITEMS, two BLOCKS among them at most."""
+    fold = ()
+    letters = list("abcdefghijklmnopqrstuvwxyz")
+    for turn in range(many):
+        name = letters.pop(0)
+        ahead, blocks = seen_behind(fold)
+        wish = dice.choice((TRUE, random_sentence(dice, ahead, 3, blocks), random_sentence(dice, ahead, 3, blocks)))
+        if len(blocks) < 2 and dice.random() < 0.5:
+            most = dice.randint(1, 3)
+            body = [letters.pop(0) for turn in range(dice.randint(0, 3))]
+            fold += ((name, most, wish, random_body(dice, ahead + [(name, ("number", 0, most))], body)),)
+        else:
+            fold += ((name, random_kind(dice), wish),)
+    return fold
+
+
+def random_pairs(dice, questions):
+    """Make pairs of some of the QUESTIONS."""
+    return tuple((name, dice.choice(answers(kind))) for name, kind, wish in questions if dice.random() < 0.8)
+
+
+def random_fold_store(dice, fold):
+    """Make a FOLD STORE of the FOLD."""
+    outer = random_pairs(dice, [item for item in fold if len(item) == 3])
+    blocks = [item for item in fold if len(item) == 4]
+    return outer, tuple(
+        tuple(random_pairs(dice, block[3]) for turn in range(dice.randint(0, block[1]))) for block in blocks
+    )

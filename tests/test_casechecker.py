@@ -3,11 +3,13 @@
 import random
 import unittest
 
-from askfolds.boxes import parts, whole
+from askfolds.boxes import whole
 from askfolds.casechecker import lets_cases
 from askfolds.errors import NoPaper
 from askfolds.views import holds, value
-from tests.helpers import BIG, FALSE, ODD_THINGS, TRUE, random_form, random_sentence, random_term, view_of, whole_stores
+from tests.helpers import (
+    BIG, FALSE, ODD_THINGS, TRUE, full_cases, random_form, random_sentence, random_term, view_of, whole_stores
+)
 
 FORM = (
     ("n", ("number", -3, 4), TRUE),
@@ -141,20 +143,6 @@ class Right(unittest.TestCase):
         with self.assertRaises(NoPaper) as caught:
             lets_cases(form, (), (("least", (0, (("times", "n", 1),)), 999), *NEVER), rows)
         self.assertEqual((caught.exception.word, caught.exception.number), ("leaf", 1998))
-
-
-def full_cases(form, box):
-    """Write the CASES that split the BOX down to single WHOLE STORES."""
-    for (name, kind, wish), spread in zip(form, box):
-        rows = [("each", name)] if kind[0] == "one" else []
-        if kind[0] == "number":
-            rows = [("cut", name, number) for number in range(kind[1], kind[2] + 1)]
-        if kind[0] == "some":
-            rows = [("with", name, number) for number in range(kind[1])]
-        for row in rows:
-            if parts(form, box, row):
-                return (row,) + tuple(inner for part in parts(form, box, row) for inner in full_cases(form, part))
-    return (LEAF,)
 
 
 class Promise(unittest.TestCase):

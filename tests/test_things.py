@@ -4,7 +4,10 @@ import copy
 import random
 import unittest
 
-from askfolds import boxes, casechecker, folds, forms, kinds, readings, settling, surely, terms, texts, views
+from askfolds import (
+    alikechecker, boxes, casechecker, changing, counting, foldchanges, folds, foldviews, forms, kinds, orders, readings,
+    settling, surely, terms, texts, views
+)
 from askfolds.errors import FoldError
 from tests.helpers import FALSE, ODD_THINGS, TRUE
 
@@ -12,18 +15,28 @@ FORM = (("n", ("number", -3, 4), TRUE), ("b", ("one", 3), ("given", "n")), ("s",
 FOLD = (FORM[0], ("kid", 2, TRUE, (("b", ("one", 3), ("given", "n")),)))
 BOX = ((-3, 4), (0, 1), ((), (1,)))
 TERM = (1, (("times", "n", 2), ("of", "b", (3, 4)), ("where", ("has", "s", 0), 5)))
+STORE = ((("n", 2),), (((), (("b", 1),)),))
 LISTS = ([], [[]], [True], ["n"], [("leaf",)], (["leaf"],), ["-", "0"], [[1, [2]], (3, [4])], ("all", [TRUE]), [((), ())])
 
-LOOKS = (
+TRUTHS = (
     kinds.is_number, kinds.is_name, kinds.is_kind, forms.is_form, folds.is_fold,
     lambda thing: kinds.is_answer(("some", 2), thing),
     lambda thing: terms.is_sentence(forms.kinds_of(FORM), thing),
     lambda thing: terms.is_term(forms.kinds_of(FORM), thing),
     lambda thing: boxes.is_box(FORM, thing),
     lambda thing: folds.is_fold_store(FOLD, thing),
+)
+LOOKS = TRUTHS + (
     lambda thing: forms.place_of(FORM, thing),
     lambda thing: forms.question_of(FORM, thing),
     lambda thing: casechecker.lets_cases(FORM, (), (FALSE, (0, ()), 1), thing),
+    lambda thing: alikechecker.lets_alike(FORM, (0, ()), FORM, (0, ()), thing),
+    lambda thing: changing.changed(FORM, thing),
+    lambda thing: changing.changed(FORM, ("wish", "n", thing)),
+    lambda thing: changing.changed(FORM, ("put", 0, ("x", ("one", 2), thing))),
+    lambda thing: foldchanges.fold_changed(FOLD, thing),
+    lambda thing: foldchanges.fold_changed(FOLD, ("put", "", 0, thing)),
+    lambda thing: foldchanges.fold_changed(FOLD, ("kind", "n", thing)),
 )
 ASKS = (
     lambda: kinds.answers(("some", 3)),
@@ -41,6 +54,20 @@ ASKS = (
     lambda: texts.shown_fold_store(((), (((), ()),))),
     lambda: texts.shown_cases((("leaf",), ("each", "b"))),
     lambda: readings.read_form(texts.shown_form(FOLD)),
+    lambda: counting.how_many(FORM, ("has", "s", 1)),
+    lambda: counting.by_answers(FORM, ("given", "b"), "s"),
+    lambda: orders.ahead(FORM, "s"),
+    lambda: orders.behind(FORM, "n"),
+    lambda: orders.reordered(FORM, ("n", "b", "s")),
+    lambda: orders.reordered(FORM, ("b", "n", "s")),
+    lambda: changing.changed(FORM, ("take", "s")),
+    lambda: foldviews.fold_shown(FOLD, STORE),
+    lambda: foldviews.fold_opened(FOLD, STORE),
+    lambda: foldviews.fold_aside(FOLD, ((), STORE[1])),
+    lambda: foldviews.fold_holds(FOLD, STORE, ("least", (0, (("pieces", "kid", (0, (("of", "b", (0, 1)),))),)), 1)),
+    lambda: foldviews.fold_value(FOLD, STORE, (0, (("pieces", "kid", (2, ())),))),
+    lambda: foldchanges.fold_changed(FOLD, ("most", "kid", 1)),
+    lambda: foldchanges.fold_led(FOLD, FOLD[:1], STORE),
 )
 
 
@@ -76,15 +103,15 @@ class Things(unittest.TestCase):
 
     def test_told_lists_are_new(self):
         for ask in ASKS:
-            one = ask()
+            one = told(ask)
             if isinstance(one, list):
                 before = list(one)
                 one.reverse()
                 one.append("more")
-                self.assertTrue(same(ask(), before))
+                self.assertTrue(same(told(ask), before))
 
     def test_looks_tell_truths(self):
-        for look in LOOKS[:-3]:
+        for look in TRUTHS:
             for thing in LISTS + ODD_THINGS:
                 self.assertIsInstance(look(thing), bool)
 
