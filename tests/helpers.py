@@ -4,6 +4,7 @@ import itertools
 
 from askfolds.boxes import parts, whole
 from askfolds.kinds import answers
+from askfolds.terms import names_in
 from askfolds.views import holds
 
 BIG = 10 ** 199
@@ -170,6 +171,24 @@ def random_form(dice, many):
     return form
 
 
+def lively_sentence(dice, kinds, depth, blocks=()):
+    """Make a SENTENCE with names in it, where there are any."""
+    sentence = random_sentence(dice, kinds, depth, blocks)
+    while kinds and not names_in(sentence):
+        sentence = random_sentence(dice, kinds, depth, blocks)
+    return sentence
+
+
+def lively_form(dice, many):
+    """Make a small FORM of so many QUESTIONS, many of which SHOW."""
+    form = ()
+    for name in "abcdefgh"[:many]:
+        kinds = [question[:2] for question in form]
+        wish = lively_sentence(dice, kinds, 3) if kinds and dice.random() < 0.7 else TRUE
+        form += ((name, random_kind(dice), wish),)
+    return form
+
+
 def seen_behind(fold):
     """Tell the KINDS that are ahead of an ITEM behind all others, and the blocks, as random_term takes both."""
     ahead, blocks = [], []
@@ -186,7 +205,8 @@ def random_body(dice, ahead, names):
     body = ()
     for name in names:
         kinds = ahead + [question[:2] for question in body]
-        body += ((name, random_kind(dice), random_sentence(dice, kinds, 2)),)
+        wish = lively_sentence(dice, kinds, 2) if dice.random() < 0.7 else TRUE
+        body += ((name, random_kind(dice), wish),)
     return body
 
 
@@ -197,7 +217,7 @@ def random_fold(dice, many):
     for turn in range(many):
         name = letters.pop(0)
         ahead, blocks = seen_behind(fold)
-        wish = dice.choice((TRUE, random_sentence(dice, ahead, 3, blocks), random_sentence(dice, ahead, 3, blocks)))
+        wish = lively_sentence(dice, ahead, 3, blocks) if fold and dice.random() < 0.7 else TRUE
         if len(blocks) < 2 and dice.random() < 0.5:
             most = dice.randint(1, 3)
             body = [letters.pop(0) for turn in range(dice.randint(0, 3))]

@@ -7,7 +7,7 @@ from askfolds.alikechecker import lets_alike
 from askfolds.boxes import whole
 from askfolds.errors import NoOrder, NoPaper
 from askfolds.views import value
-from tests.helpers import BIG, FALSE, ODD_THINGS, TRUE, full_cases, random_form, random_term, view_of, whole_stores
+from tests.helpers import BIG, FALSE, ODD_THINGS, TRUE, full_cases, lively_form, random_term, view_of, whole_stores
 
 LEAF = ("leaf",)
 AGED = ("least", (0, (("times", "n", 1),)), 18)
@@ -121,7 +121,7 @@ class Promise(unittest.TestCase):
         dice = random.Random(61)
         seen = {True: 0, False: 0}
         for turn in range(300):
-            one = random_form(dice, dice.randint(1, 3))
+            one = lively_form(dice, dice.randint(1, 3))
             other = tuple((name, kind, dice.choice((wish, ("not", ("not", wish)), TRUE))) for name, kind, wish in one)
             if dice.random() < 0.5 and all(question[2] == TRUE for question in other):
                 other = other[::-1]

@@ -83,6 +83,7 @@ class Refused(unittest.TestCase):
             ("move", True, 0), ("move", "A", 0), ("move", "a", (0,)), ("move", "a", [0]),
             ("kind", "a", ("one", 0)), ("kind", "a", ("one", True)), ("kind", "a", ["one", 2]), ("kind", "a", ("one",)),
             ("kind", "a", ("one", 2, 3)), ("kind", "a", ("number", 1, 0)), ("kind", "a", None), ("kind", "a", "one"),
+            ("kinds", "a", ("one", 2)), ("take", "a", ("one", 2)), ("turn", "a", 0), ("turn", "a", TRUE),
             ("kind", "A", ("one", 2)), ("kind", ("one", 2), "a"), ("kind", ["a"], ("one", 2)),
             ("wish", "", TRUE), ("wish", "A", TRUE), ("wish", None, TRUE), ("wish", ["a"], TRUE), ("wish", TRUE, "a"), ("wish", True, TRUE),
         ):

@@ -7,7 +7,7 @@ from askfolds.counting import by_answers, how_many
 from askfolds.errors import NoName
 from askfolds.kinds import answers
 from askfolds.views import holds
-from tests.helpers import FALSE, ODD_THINGS, TRUE, random_form, random_sentence, view_of, whole_stores
+from tests.helpers import FALSE, ODD_THINGS, TRUE, lively_form, lively_sentence, view_of, whole_stores
 
 FORM = (
     ("n", ("number", -1, 2), TRUE),
@@ -105,9 +105,9 @@ class ByAnswers(unittest.TestCase):
     def test_by_all_fillings(self):
         dice = random.Random(25)
         for turn in range(150):
-            form = random_form(dice, dice.randint(1, 5))
+            form = lively_form(dice, dice.randint(1, 5))
             kinds = [question[:2] for question in form]
-            sentence = random_sentence(dice, kinds, 3)
+            sentence = lively_sentence(dice, kinds, 3)
             some = counted(form, sentence)
             self.assertEqual(how_many(form, sentence), len(some))
             for name, kind in kinds:
@@ -118,9 +118,9 @@ class ByAnswers(unittest.TestCase):
     def test_counts_added(self):
         dice = random.Random(27)
         for turn in range(150):
-            form = random_form(dice, dice.randint(0, 4))
+            form = lively_form(dice, dice.randint(0, 4))
             kinds = [question[:2] for question in form]
-            s, t = random_sentence(dice, kinds, 2), random_sentence(dice, kinds, 2)
+            s, t = lively_sentence(dice, kinds, 2), lively_sentence(dice, kinds, 2)
             self.assertEqual(how_many(form, s) + how_many(form, ("not", s)), how_many(form, TRUE))
             both = how_many(form, ("all", (s, t))) + how_many(form, ("any", (s, t)))
             self.assertEqual(how_many(form, s) + how_many(form, t), both)

@@ -6,9 +6,7 @@ import unittest
 from askfolds.folds import is_fold, is_fold_store, spots
 from askfolds.foldviews import fold_aside, fold_holds, fold_opened, fold_shown, fold_value
 from askfolds.views import holds, value
-from tests.helpers import (
-    FALSE, TRUE, random_fold, random_fold_store, random_sentence, random_term, seen_behind
-)
+from tests.helpers import FALSE, TRUE, lively_sentence, random_fold, random_fold_store, random_term, seen_behind
 
 
 def least(number, *parts):
@@ -222,7 +220,7 @@ class Promise(unittest.TestCase):
                 self.assertEqual(fold_opened(fold, store), tuple(spot for spot in shown if spot not in answered))
                 aside = tuple((spot, answered[spot]) for spot in spots(fold, store) if spot in answered and spot not in shown)
                 self.assertEqual(fold_aside(fold, store), aside)
-                sentence, term = random_sentence(dice, ahead, 3, blocks), random_term(dice, ahead, 3, blocks)
+                sentence, term = lively_sentence(dice, ahead, 3, blocks), random_term(dice, ahead, 3, blocks)
                 seen["pieces"] += "pieces" in str(sentence) + str(term)
                 self.assertIs(fold_holds(fold, store, sentence), holds(pairs, settled_sentence(inner, sentence)))
                 self.assertEqual(fold_value(fold, store, term), value(pairs, settled_term(inner, term)))

@@ -10,7 +10,7 @@ from askfolds.forms import is_form, names
 from askfolds.orders import ahead, behind, reordered
 from askfolds.terms import names_in
 from askfolds.views import holds, value
-from tests.helpers import ODD_THINGS, TRUE, random_form, random_sentence, random_term, view_of, whole_stores
+from tests.helpers import ODD_THINGS, TRUE, lively_form, lively_sentence, random_term, view_of, whole_stores
 
 FORM = (
     ("a", ("one", 2), TRUE),
@@ -53,7 +53,7 @@ class Looks(unittest.TestCase):
     def test_by_random_forms(self):
         dice = random.Random(29)
         for turn in range(100):
-            form = random_form(dice, 6)
+            form = lively_form(dice, 6)
             before = {}
             for name, kind, wish in form:
                 before[name] = set(names_in(wish)).union(*[before[one] for one in names_in(wish)])
@@ -107,9 +107,9 @@ class Reordered(unittest.TestCase):
         dice = random.Random(31)
         turned = 0
         for turn in range(60):
-            form = random_form(dice, 4)
+            form = lively_form(dice, 4)
             kinds = [question[:2] for question in form]
-            sentence, term = random_sentence(dice, kinds, 2), random_term(dice, kinds, 2)
+            sentence, term = lively_sentence(dice, kinds, 2), random_term(dice, kinds, 2)
             for order in itertools.permutations(names(form)):
                 try:
                     other = reordered(form, order)

@@ -5,8 +5,8 @@ import random
 import unittest
 
 from askfolds import (
-    alikechecker, boxes, casechecker, changing, counting, foldchanges, folds, foldviews, forms, kinds, orders, readings,
-    settling, surely, terms, texts, views
+    alikechecker, asking, boxes, casechecker, changing, comparing, counting, extremechecker, foldchanges, folds, foldviews,
+    forms, kinds, orders, pieces, readings, settling, showing, surely, terms, texts, unfolding, views
 )
 from askfolds.errors import FoldError
 from tests.helpers import FALSE, ODD_THINGS, TRUE
@@ -25,12 +25,19 @@ TRUTHS = (
     lambda thing: terms.is_term(forms.kinds_of(FORM), thing),
     lambda thing: boxes.is_box(FORM, thing),
     lambda thing: folds.is_fold_store(FOLD, thing),
+    lambda thing: showing.is_store(FORM, thing),
+    lambda thing: showing.is_filling(FORM, thing),
 )
 LOOKS = TRUTHS + (
     lambda thing: forms.place_of(FORM, thing),
     lambda thing: forms.question_of(FORM, thing),
     lambda thing: casechecker.lets_cases(FORM, (), (FALSE, (0, ()), 1), thing),
     lambda thing: alikechecker.lets_alike(FORM, (0, ()), FORM, (0, ()), thing),
+    lambda thing: extremechecker.lets_least(FORM, TRUE, TERM, thing),
+    lambda thing: extremechecker.lets_least(FORM, TRUE, (0, ()), (0, thing, (("leaf",),))),
+    lambda thing: extremechecker.lets_least(FORM, TRUE, (0, ()), (0, (("n", 1), ("b", 1)), thing)),
+    lambda thing: pieces.piece_in(FOLD, STORE, thing, 0),
+    lambda thing: pieces.piece_out(FOLD, STORE, "kid", thing),
     lambda thing: changing.changed(FORM, thing),
     lambda thing: changing.changed(FORM, ("wish", "n", thing)),
     lambda thing: changing.changed(FORM, ("put", 0, ("x", ("one", 2), thing))),
@@ -68,6 +75,22 @@ ASKS = (
     lambda: foldviews.fold_value(FOLD, STORE, (0, (("pieces", "kid", (2, ())),))),
     lambda: foldchanges.fold_changed(FOLD, ("most", "kid", 1)),
     lambda: foldchanges.fold_led(FOLD, FOLD[:1], STORE),
+    lambda: showing.sorted_store(FORM, (("s", ()), ("n", 1))),
+    lambda: showing.shown(FORM, (("n", 1), ("b", 0))),
+    lambda: showing.opened(FORM, (("n", 1), ("b", 0))),
+    lambda: showing.view(FORM, (("n", 1), ("s", ()))),
+    lambda: showing.aside(FORM, (("n", 1), ("s", ()))),
+    lambda: unfolding.unfolded(FOLD),
+    lambda: unfolding.flat_store(FOLD, STORE),
+    lambda: unfolding.flat_term(FOLD, (0, (("pieces", "kid", (2, ())),))),
+    lambda: pieces.piece_out(FOLD, STORE, "kid", 0),
+    lambda: pieces.piece_in(FOLD, STORE, "kid", 0),
+    lambda: pieces.piece_moved(FOLD, STORE, "kid", 0, 1),
+    lambda: comparing.alike(FORM, TERM, FORM, (TERM[0], TERM[1][::-1])),
+    lambda: comparing.alike(FORM, TERM, FORM, (2, TERM[1])),
+    lambda: comparing.alike(FORM, TERM, FORM[:2], TERM),
+    lambda: asking.may_ask(FORM, (("n", 1),)),
+    lambda: asking.is_sure(FORM, (("n", 1),), ("is", "b", 1)),
 )
 
 
