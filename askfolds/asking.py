@@ -1,6 +1,10 @@
 """What may be asked, and what is sure, from known answers."""
 
 from askfolds.boxes import parts, whole
+from askfolds.casechecker import never_claim
+from askfolds.forms import question_of
+from askfolds.kinds import answers
+from askfolds.showing import sorted_store
 from askfolds.splitting import split_for, wishes_of
 from askfolds.surely import facts_in, states, word_by
 
@@ -10,6 +14,17 @@ def may_ask(form, known):
     given = dict(known)
     told = states(form, whole(form, known))
     return tuple(question[0] for question, state in zip(form, told) if state == "yes" and question[0] not in given)
+
+
+def knowns_behind(form, known, name):
+    """Tell the KNOWNS with each ANSWER of the name more, rising by it."""
+    kind = question_of(form, name)[1]
+    return [sorted_store(form, known + ((name, answer),)) for answer in answers(kind)]
+
+
+def sure_claim(sentence, word):
+    """Tell the CLAIM by which it is SURE that the SENTENCE's word is this one, "yes" or "no"."""
+    return never_claim(sentence if word == "no" else ("not", sentence))
 
 
 def is_sure(form, known, sentence):

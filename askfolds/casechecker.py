@@ -48,6 +48,11 @@ def is_case_row(thing):
     return thing[0] in ("cut", "with") and is_number(thing[2])
 
 
+def never_claim(sentence):
+    """Tell the CLAIM that the SENTENCE holds for none."""
+    return sentence, (0, ()), 1
+
+
 def is_right(form, box, claim):
     """Tell whether in the BOX the SENTENCE's word is no, or the TERM's low reaches the CLAIM's number."""
     sentence, term, number = claim

@@ -5,8 +5,8 @@ from askfolds.boxes import free_places, parts, whole
 from askfolds.errors import NoOrder
 from askfolds.rows import put_instead
 from askfolds.showing import sorted_store, view
-from askfolds.splitting import loose_parts, split_for_state, wishes_of
-from askfolds.surely import facts_in, part_state
+from askfolds.splitting import unsettled_split, wishes_of
+from askfolds.surely import facts_in
 from askfolds.views import value
 
 
@@ -18,7 +18,7 @@ def alike(one, term, other, another):
     rows = []
     while waiting:
         box = waiting.pop()
-        row = unsettled_split(one, box, term) or unsettled_split(other, turned_box(one, other, box), another)
+        row = settling_split(one, box, term) or settling_split(other, turned_box(one, other, box), another)
         if row:
             rows.append(row)
             waiting.extend(parts(one, box, row)[::-1])
@@ -29,13 +29,9 @@ def alike(one, term, other, another):
     return "alike", tuple(rows)
 
 
-def unsettled_split(form, box, term):
+def settling_split(form, box, term):
     """Tell a SPLIT of the BOX that helps to settle the TERM, () where it is SETTLED."""
-    facts = facts_in(form, box)
-    for part in loose_parts(facts, term):
-        if part_state(facts, part) == "maybe":
-            return split_for_state(wishes_of(form), facts, part)
-    return ()
+    return unsettled_split(wishes_of(form), facts_in(form, box), term)
 
 
 def parting_store(one, term, other, another, box):

@@ -8,8 +8,13 @@ from askfolds.views import holds
 
 def how_many(form, sentence):
     """Tell the COUNT: how many FILLINGS there are against which the SENTENCE holds."""
-    ways = ways_to_fill(form, names_in(sentence))
-    return sum(number for pairs, number in ways.items() if holds(pairs, sentence))
+    return how_many_behind(form, (), sentence)
+
+
+def how_many_behind(questions, pairs, sentence):
+    """Tell how many ways there are to fill the QUESTIONS behind these pairs so that the SENTENCE holds."""
+    ways = ways_to_fill(questions, pairs, names_in(sentence))
+    return sum(number for kept, number in ways.items() if holds(kept, sentence))
 
 
 def by_answers(form, sentence, name):
@@ -17,7 +22,7 @@ def by_answers(form, sentence, name):
     kind = question_of(form, name)[1]
     hidden = 0
     counts = {answer: 0 for answer in answers(kind)}
-    for pairs, number in ways_to_fill(form, names_in(sentence) + (name,)).items():
+    for pairs, number in ways_to_fill(form, (), names_in(sentence) + (name,)).items():
         given = dict(pairs)
         if not holds(pairs, sentence):
             continue
@@ -28,12 +33,12 @@ def by_answers(form, sentence, name):
     return hidden, tuple(counts.items())
 
 
-def ways_to_fill(form, kept):
-    """Tell how many FILLINGS there are for each pairs that they may have of the names kept."""
-    ways = {(): 1}
-    for place, question in enumerate(form):
+def ways_to_fill(questions, pairs, kept):
+    """Tell how many ways there are to fill the QUESTIONS behind these pairs, for each pairs of the names kept."""
+    ways = {pairs: 1}
+    for place, question in enumerate(questions):
         # A name that nobody looks at any more need not part the ways: so they stay few.
-        needed = looked_at(form[place + 1:]) + list(kept)
+        needed = looked_at(questions[place + 1:]) + list(kept)
         ways = further_ways(ways, question, needed)
     return ways
 

@@ -1,16 +1,41 @@
-"""Which split of a box tells more of a sentence whose word in it is maybe.
+"""Which split of a box tells more of a sentence whose word in it is maybe, and of a term that isn't settled in it.
 
 Wishes are a dict from each name to its wish, facts are those of the box.
 """
 
 from askfolds.boxes import free_places
-from askfolds.surely import bounds_by, part_bounds, part_state, word_by
-from askfolds.views import weight_at
+from askfolds.surely import bounds_by, facts_in, part_bounds, part_state, word_by
+from askfolds.views import part_value, weight_at
 
 
 def wishes_of(form):
     """Tell the wish of each name."""
     return {question[0]: question[2] for question in form}
+
+
+def unsure_split(form, box, sentence, term):
+    """Tell a SPLIT of the BOX where it isn't sure whether the SENTENCE holds, or what counts in the TERM, else ()."""
+    facts = facts_in(form, box)
+    if word_by(facts, sentence) == "maybe":
+        return split_for(wishes_of(form), facts, sentence)
+    return unsettled_split(wishes_of(form), facts, term)
+
+
+def unsettled_split(wishes, facts, term):
+    """Tell a SPLIT that helps to settle the TERM, () where it is SETTLED."""
+    for part in loose_parts(facts, term):
+        if part_state(facts, part) == "maybe":
+            return split_for_state(wishes, facts, part)
+    return ()
+
+
+def unlike_split(facts, term, lowest):
+    """Tell a SPLIT for a SETTLED TERM whose low is not reached, not even by lowest, the answers that bring least."""
+    # PARTS of one name cannot all be low at once: the low of the TERM rises only as that name's RANGE gets narrower.
+    unlike = [part for part in term[1] if part_value(lowest, part) > part_bounds(facts, part)[0]]
+    if unlike[0][0] == "of":
+        return split_for_weights(facts, unlike[0])
+    return cut_in_half(facts, unlike[:1])
 
 
 def split_for(wishes, facts, sentence):

@@ -239,3 +239,67 @@ def random_fold_store(dice, fold):
     return outer, tuple(
         tuple(random_pairs(dice, block[3]) for turn in range(dice.randint(0, block[1]))) for block in blocks
     )
+
+
+WIDE = ("number", -1000, 1000)
+
+
+class Bars:
+    """Gives out SENTENCES with bars on wide names, at most seven for each name, each the one "times" of its TERM."""
+
+    def __init__(self, dice, wide):
+        self.dice = dice
+        self.left = {name: 7 for name in wide}
+
+    def sentence(self, kinds, depth):
+        """Make a SENTENCE OF the KINDS."""
+        wide = [name for name, kind in kinds if self.left.get(name, 0) > 0]
+        narrow = [(name, kind) for name, kind in kinds if name not in self.left]
+        if wide and self.dice.random() < 0.6:
+            name = self.dice.choice(wide)
+            self.left[name] -= 1
+            others = tuple(part for part in random_term(self.dice, narrow, depth)[1] if part[0] == "of")
+            if depth > 0 and self.dice.random() < 0.5:
+                others += (("where", self.sentence(kinds, depth - 1), self.dice.randint(-50, 50)),)
+            part = ("times", name, self.dice.choice((-7, -2, -1, 1, 1, 2, 3, 7)))
+            return "least", (self.dice.randint(-50, 50), others + (part,)), self.dice.randint(-900, 900)
+        if depth > 0 and self.dice.random() < 0.7:
+            word = self.dice.choice(("all", "any", "not"))
+            if word == "not":
+                return word, self.sentence(kinds, depth - 1)
+            return word, tuple(self.sentence(kinds, depth - 1) for turn in range(2))
+        return lively_sentence(self.dice, kinds if not wide else narrow, 0)
+
+
+def random_wide_form(dice, bars, kinds):
+    """Make a FORM of these KINDS with bars in its wishes."""
+    return tuple((name, kind, bars.sentence(kinds[:at], 2) if at > 1 else TRUE) for at, (name, kind) in enumerate(kinds))
+
+
+def some_stores(dice, form, many):
+    """Tell some WHOLE STORES."""
+    return [
+        tuple((name, dice.randint(*kind[1:]) if kind[0] == "number" else dice.choice(answers(kind))) for name, kind, wish in form)
+        for turn in range(many)
+    ]
+
+
+def barred_kinds(dice):
+    """Make KINDS of a SMALL FORM with one or two wide names."""
+    kinds = dice.choice((
+        [WIDE, WIDE, ("one", 6)], [WIDE, ("one", 3), ("some", 2), ("one", 4)], [WIDE, ("some", 1), WIDE, ("one", 3)],
+        [("one", 2), WIDE, ("number", 0, 7), ("one", 3)], [("number", -4, 3), ("number", 10, 50), ("one", 6)],
+        [("number", 0, 8), ("number", 0, 9), ("one", 5)],
+    ))
+    return list(zip("abcd", kinds))
+
+
+def nudged(dice, sentence):
+    """Write the SENTENCE with bars that may lie one off."""
+    if sentence[0] == "least":
+        return sentence[0], sentence[1], sentence[2] + dice.choice((-1, 0, 0, 1))
+    if sentence[0] == "not":
+        return sentence[0], nudged(dice, sentence[1])
+    if sentence[0] in ("all", "any"):
+        return sentence[0], tuple(nudged(dice, one) for one in sentence[1])
+    return sentence

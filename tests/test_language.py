@@ -25,7 +25,7 @@ BARRED_NAMES = set(
 )
 STATEMENTS = (
     ast.FunctionDef, ast.ClassDef, ast.Assign, ast.AugAssign, ast.If, ast.While, ast.For, ast.Return, ast.Break,
-    ast.Continue, ast.Pass, ast.Raise, ast.Expr, ast.ImportFrom,
+    ast.Continue, ast.Pass, ast.Raise, ast.Expr, ast.ImportFrom, ast.Try,
 )
 METHODS = set(
     "append clear copy count endswith extend find get index insert isalnum isalpha isdigit islower isspace isupper "
@@ -78,6 +78,30 @@ class Language(unittest.TestCase):
                     self.assertEqual(node.decorator_list, [], (name, node.name))
                 if isinstance(node, ast.stmt):
                     self.assertIsInstance(node, STATEMENTS, (name, node.lineno))
+
+    def test_errors(self):
+        own = [node.name for node in ast.walk(ast.parse(dict(files())["errors.py"])) if isinstance(node, ast.ClassDef)]
+        for name, text in files():
+            for node in ast.walk(ast.parse(text)):
+                if isinstance(node, ast.ExceptHandler):
+                    self.assertIn(node.type.id, own, (name, node.lineno))
+                    self.assertIsNone(node.name, (name, node.lineno))
+                if isinstance(node, ast.Try):
+                    self.assertEqual((node.finalbody, node.orelse), ([], []), (name, node.lineno))
+                if isinstance(node, ast.Raise):
+                    self.assertIn(node.exc.func.id, own, (name, node.lineno))
+
+    def test_classes(self):
+        methods, attributes = set(), set()
+        for name, text in files():
+            for node in ast.walk(ast.parse(text)):
+                if isinstance(node, ast.ClassDef):
+                    methods.update(one.name for one in node.body if isinstance(one, ast.FunctionDef))
+                if isinstance(node, ast.Attribute) and isinstance(node.ctx, ast.Store):
+                    attributes.add(node.attr)
+                    self.assertEqual(node.value.id, "self", (name, node.lineno))
+        self.assertEqual(methods & attributes, set())
+        self.assertEqual((methods | attributes) & BARRED_NAMES, set())
 
     def test_names(self):
         for name, text in files():

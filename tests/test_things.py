@@ -5,8 +5,9 @@ import random
 import unittest
 
 from askfolds import (
-    alikechecker, asking, boxes, casechecker, changing, comparing, counting, extremechecker, foldchanges, folds, foldviews,
-    forms, kinds, orders, pieces, readings, settling, showing, surely, terms, texts, unfolding, views
+    alikechecker, askchecker, asking, boxes, casechecker, cases, changing, comparing, counting, extremechecker, foldchanges,
+    folds, foldviews, forms, keeping, kinds, leading, listing, orders, pieces, reachchecker, readings, settling, showing,
+    surely, terms, texts, unfolding, views
 )
 from askfolds.errors import FoldError
 from tests.helpers import FALSE, ODD_THINGS, TRUE
@@ -36,6 +37,20 @@ LOOKS = TRUTHS + (
     lambda thing: extremechecker.lets_least(FORM, TRUE, TERM, thing),
     lambda thing: extremechecker.lets_least(FORM, TRUE, (0, ()), (0, thing, (("leaf",),))),
     lambda thing: extremechecker.lets_least(FORM, TRUE, (0, ()), (0, (("n", 1), ("b", 1)), thing)),
+    lambda thing: reachchecker.lets_reach(FORM, TRUE, thing),
+    lambda thing: reachchecker.lets_reach(FORM, TRUE, ("least", thing, (("leaf",),))),
+    lambda thing: reachchecker.lets_reach(FORM, TRUE, ("never", thing)),
+    lambda thing: askchecker.lets_asks(FORM, TRUE, thing),
+    lambda thing: askchecker.lets_asks(FORM, TRUE, (thing,)),
+    lambda thing: askchecker.lets_asks(FORM, TRUE, (("sure", "yes", thing),)),
+    lambda thing: keeping.Keeper(FOLD, STORE).answer(thing, 1),
+    lambda thing: keeping.Keeper(FOLD, STORE).answer(("b", 1), thing),
+    lambda thing: keeping.Keeper(FOLD, STORE).away(thing),
+    lambda thing: keeping.Keeper(FOLD, STORE).piece_in(thing, 0),
+    lambda thing: keeping.Keeper(FOLD, STORE).piece_out("kid", thing),
+    lambda thing: keeping.Keeper(FOLD, STORE).piece_moved("kid", 0, thing),
+    lambda thing: keeping.Keeper(FOLD, STORE).change(thing),
+    lambda thing: keeping.Keeper(FOLD, STORE).change(("wish", "kid", thing)),
     lambda thing: pieces.piece_in(FOLD, STORE, thing, 0),
     lambda thing: pieces.piece_out(FOLD, STORE, "kid", thing),
     lambda thing: changing.changed(FORM, thing),
@@ -91,6 +106,16 @@ ASKS = (
     lambda: comparing.alike(FORM, TERM, FORM[:2], TERM),
     lambda: asking.may_ask(FORM, (("n", 1),)),
     lambda: asking.is_sure(FORM, (("n", 1),), ("is", "b", 1)),
+    lambda: cases.claim_cases(FORM, (), (("given", "b"), TERM, -6)),
+    lambda: cases.claim_cases(FORM, (("b", 1),), (TRUE, TERM, 0)),
+    lambda: listing.row_of(FORM, (("n", 1), ("b", 1))),
+    lambda: listing.filling_at(FORM, ("given", "s"), 3),
+    lambda: listing.filling_at(FORM, ("given", "s"), -3),
+    lambda: listing.number_of(FORM, TRUE, (("n", 1), ("b", 1))),
+    lambda: leading.led(FORM, FORM[:1], (("n", 1), ("b", 1))),
+    lambda: keeping.Keeper(FOLD, STORE).answer("n", 3),
+    lambda: keeping.Keeper(FOLD, STORE).change(("take", "kid")),
+    lambda: keeping.Keeper(FOLD, STORE).back(),
 )
 
 
