@@ -1,4 +1,4 @@
-"""Stores in a box: where a settled term is least."""
+"""Stores in a box: where a settled term is least, and where each answer is."""
 
 from askfolds.boxes import free_places
 from askfolds.settling import settled
@@ -25,3 +25,21 @@ def lowest_answer(kind, spread, numbers):
         return spread[numbers.index(min(numbers))]
     light = [place for place, number in zip(free_places(kind, spread), numbers) if number < 0]
     return tuple(sorted(spread[0] + tuple(light)))
+
+
+def first_store(form, box):
+    """Tell the WHOLE STORE of the BOX with the least ANSWER of each name."""
+    found = []
+    for question, spread in zip(form, box):
+        name, kind, wish = question
+        found.append((name, first_answer(kind, spread)))
+    return tuple(found)
+
+
+def first_answer(kind, spread):
+    """Tell the least ANSWER of the RANGE."""
+    if kind[0] != "some" or spread[0] == ():
+        return spread[0]
+    # Of tuples that have the last place of within, those with each free place ahead of it are less.
+    within = spread[0]
+    return tuple(sorted(within + tuple(place for place in free_places(kind, spread) if place < within[-1])))

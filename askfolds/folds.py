@@ -2,7 +2,7 @@
 
 from askfolds.forms import are_pairs, is_question, kinds_of
 from askfolds.kinds import LETTERS, is_number
-from askfolds.terms import sentence_fits
+from askfolds.terms import sentence_fits, term_fits
 
 
 def is_fold(thing):
@@ -16,11 +16,37 @@ def is_fold(thing):
         if not is_item(ahead, blocks, item):
             return False
         found.extend(item_names(item))
-        ahead[item[0]] = item_kind(item)
-        if is_block(item):
-            body = dict(kinds_of(item[3]))
-            blocks[item[0]] = (body, {**ahead, **body})
+        put_ahead(ahead, blocks, item)
     return len(found) == len(set(found)) and all(is_fold_name(name) for name in found)
+
+
+def put_ahead(ahead, blocks, item):
+    """Put into both dicts what those behind the ITEM may speak of: KINDS by names, and BLOCKS as terms.py has them."""
+    ahead[item[0]] = item_kind(item)
+    if is_block(item):
+        body = dict(kinds_of(item[3]))
+        blocks[item[0]] = (body, {**ahead, **body})
+
+
+def ahead_of_end(fold):
+    """Tell what an ITEM behind all others may speak of, both dicts."""
+    ahead = {}
+    blocks = {}
+    for item in fold:
+        put_ahead(ahead, blocks, item)
+    return ahead, blocks
+
+
+def is_fold_sentence(fold, thing):
+    """Tell whether the thing is a FOLD SENTENCE OF the FOLD."""
+    ahead, blocks = ahead_of_end(fold)
+    return sentence_fits(ahead, blocks, thing)
+
+
+def is_fold_term(fold, thing):
+    """Tell whether the thing is a FOLD TERM OF the FOLD."""
+    ahead, blocks = ahead_of_end(fold)
+    return term_fits(ahead, ahead, blocks, thing)
 
 
 def is_block(item):

@@ -5,9 +5,9 @@ import random
 import unittest
 
 from askfolds import (
-    alikechecker, askchecker, asking, boxes, casechecker, cases, changing, comparing, counting, extremechecker, foldchanges,
-    folds, foldviews, forms, keeping, kinds, leading, listing, orders, pieces, reachchecker, readings, settling, showing,
-    surely, terms, texts, unfolding, views
+    alikechecker, askchecker, asking, asktrees, boxes, casechecker, cases, changing, comparing, counting, desk, extremechecker,
+    extremes, foldchanges, folds, foldviews, forms, keeping, kinds, leading, listing, needchecker, needs, orders, pieces, pruning,
+    reachchecker, reaching, readings, settling, showing, surely, terms, texts, unfolding, views
 )
 from askfolds.errors import FoldError
 from tests.helpers import FALSE, ODD_THINGS, TRUE
@@ -43,6 +43,10 @@ LOOKS = TRUTHS + (
     lambda thing: askchecker.lets_asks(FORM, TRUE, thing),
     lambda thing: askchecker.lets_asks(FORM, TRUE, (thing,)),
     lambda thing: askchecker.lets_asks(FORM, TRUE, (("sure", "yes", thing),)),
+    lambda thing: needchecker.lets_needs(FORM, TRUE, thing),
+    lambda thing: needchecker.lets_needs(FORM, TRUE, (thing,)),
+    lambda thing: needchecker.lets_needs(FORM, TRUE, ((thing, 1, (), ()),)),
+    lambda thing: pruning.without(FORM, thing),
     lambda thing: keeping.Keeper(FOLD, STORE).answer(thing, 1),
     lambda thing: keeping.Keeper(FOLD, STORE).answer(("b", 1), thing),
     lambda thing: keeping.Keeper(FOLD, STORE).away(thing),
@@ -116,6 +120,22 @@ ASKS = (
     lambda: keeping.Keeper(FOLD, STORE).answer("n", 3),
     lambda: keeping.Keeper(FOLD, STORE).change(("take", "kid")),
     lambda: keeping.Keeper(FOLD, STORE).back(),
+    lambda: reaching.answers_term(FORM),
+    lambda: reaching.reach(FORM, ("given", "s")),
+    lambda: reaching.reach(FORM, ("is", "b", 7)),
+    lambda: extremes.contrary(TERM),
+    lambda: extremes.least(FORM, ("given", "s"), TERM),
+    lambda: extremes.greatest(FORM, TRUE, TERM),
+    lambda: extremes.greatest(FORM, FALSE, TERM),
+    lambda: pruning.never_shown(FORM),
+    lambda: pruning.always_shown(FORM),
+    lambda: pruning.without(FORM, "b"),
+    lambda: pruning.pruned(FORM),
+    lambda: asktrees.ask_tree(FORM, ("has", "s", 1)),
+    lambda: needs.needs_paper(FORM, ("has", "s", 1)),
+    lambda: desk.Desk().say("change put - 0 ask n one 2 all 0"),
+    lambda: desk.Desk().say("fold"),
+    lambda: desk.Desk().say("nothing"),
 )
 
 
