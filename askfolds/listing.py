@@ -21,14 +21,20 @@ def filling_at(form, sentence, k):
     left = k
     pairs = ()
     for place, question in enumerate(form):
-        further = pairs_behind(pairs, question)
-        counts = [how_many_behind(form[place + 1:], longer, sentence) for longer in further]
-        at = 0
-        while left >= counts[at]:
-            left -= counts[at]
-            at += 1
-        pairs = further[at]
+        pairs, left = way_down(form[place + 1:], pairs_behind(pairs, question), sentence, left)
     return pairs
+
+
+def way_down(questions, further, sentence, k):
+    """Tell behind which of the pairs further the FILLING of number k is, and its number there."""
+    left = k
+    for pairs in further[:-1]:
+        many = how_many_behind(questions, pairs, sentence)
+        if left < many:
+            return pairs, left
+        left -= many
+    # All others are passed: it is behind the last one, which needs no count.
+    return further[-1], left
 
 
 def number_of(form, sentence, filling):

@@ -73,7 +73,8 @@ class Checker(Refusals):
             ("ask",), ("ask", "b", ()), ["ask", "b"], ("ask", ["b"]), ("ask", ("b",)), ("ask", None), ("ask", True), ("ask", 0), ("ask", ""),
             ("ask", "B"), ("ask", "1b"), ("ask", "abcdefghi"), ("Ask", "b"), (True, "b"), ("sure", "yes"), ("sure", "no"), ("sure", "maybe", (LEAF,)),
             ("sure", True, (LEAF,)), ("sure", None, (LEAF,)), ("sure", ["no"], (LEAF,)), ("sure", ("no",), (LEAF,)), ("sure", "", (LEAF,)),
-            ["sure", "no", (LEAF,)], ("sure", "no", (LEAF,), ()), ("sure",), ("sure", "No", (LEAF,)), ("no", "sure", (LEAF,)), LEAF, "ask", (), [],
+            ["sure", "no", (LEAF,)], ("sure", "no", (LEAF,), ()), ("sure",), ("sure", "No", (LEAF,)), ("ask", "no", (LEAF,)), ("", "no", (LEAF,)), (True, "yes", (LEAF,)),
+            (["sure"], "no", (LEAF,)), ("no", "sure", (LEAF,)), LEAF, "ask", (), [],
         ) + ODD_THINGS
         for row in rows:
             self.refused((row,), "row", 0)

@@ -177,6 +177,15 @@ class Refused(Said):
         self.refused(desk, "in kid 999999999999", NoPiece, word="place")
         self.said(desk, ("value sum -999999999999 0", "-999999999999"), ("holds least sum 0 0 999999999999", "no"))
 
+    def test_sentences_within_one_another(self):
+        desk = Desk()
+        fifteen = "not " * 15
+        self.said(
+            desk, (f"holds {fifteen}all 0", "no"), (f"count {fifteen}all 0", "0"), (f"value sum 0 1 where {fifteen}any 0 3", "3"), (f"change put - 0 ask a one 2 {fifteen}any 0", "+a"),
+        )
+        for row in (f"holds not {fifteen}all 0", f"count not {fifteen}all 0", f"value sum 0 1 where not {fifteen}all 0 3", f"change wish a not {fifteen}all 0"):
+            self.no_row(desk, row)
+
     def test_sentences_and_terms_of_the_fold_alone(self):
         desk = begun(*BEGIN, "answer n 2", "in kid 0")
         for sentence in (
